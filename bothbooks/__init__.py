@@ -1,0 +1,1 @@
+"""Bothbooks: who follows whom, kept in two books."""

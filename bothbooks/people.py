@@ -1,0 +1,39 @@
+"""Houses and people: which texts they are, and a person's two parts."""
+
+from bothbooks.errors import NoPerson
+
+HOUSE_SIGNS = "abcdefghijklmnopqrstuvwxyz"
+HOUSE_LENGTH = 6
+NAME_SIGNS = "abcdefghijklmnopqrstuvwxyz0123456789-"
+NAME_LENGTH = 8
+
+
+def is_made_of(text, signs, most):
+    return text != "" and len(text) <= most and all([sign in signs for sign in text])
+
+
+def is_house(thing):
+    return isinstance(thing, str) and is_made_of(thing, HOUSE_SIGNS, HOUSE_LENGTH)
+
+
+def is_person(thing):
+    if not isinstance(thing, str):
+        return False
+    # A second @ falls to the house's part, where it is no letter.
+    parts = thing.partition("@")
+    return is_made_of(parts[0], NAME_SIGNS, NAME_LENGTH) and is_house(parts[2])
+
+
+def parts_of(person):
+    if not is_person(person):
+        # The words don't hold what was handed in: a refusal bears no value here.
+        raise NoPerson("a person is a text name@house")
+    return person.partition("@")
+
+
+def house_of(person):
+    return parts_of(person)[2]
+
+
+def name_of(person):
+    return parts_of(person)[0]
