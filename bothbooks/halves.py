@@ -2,6 +2,8 @@
 
 from bothbooks.people import is_person
 
+# The answer of a pair that nobody ever answered.
+FIRST_ANSWER = (0, "none", 0)
 # How often an answer was turned at least, where it bears this word.
 LEAST_NUMBER = {"lets": 1, "refuses": 1, "bars": 1, "gone": 1, "moved": 1, "open": 2}
 

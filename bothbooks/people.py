@@ -1,6 +1,6 @@
-"""Houses and people: which texts they are, and a person's two parts."""
+"""Houses, people and pairs: which texts they are, and a person's two parts."""
 
-from bothbooks.errors import NoPerson
+from bothbooks.errors import NoPair, NoPerson
 
 HOUSE_SIGNS = "abcdefghijklmnopqrstuvwxyz"
 HOUSE_LENGTH = 6
@@ -24,10 +24,21 @@ def is_person(thing):
     return is_made_of(parts[0], NAME_SIGNS, NAME_LENGTH) and is_house(parts[2])
 
 
-def parts_of(person):
+def check_person(person):
     if not is_person(person):
         # The words don't hold what was handed in: a refusal bears no value here.
         raise NoPerson("a person is a text name@house")
+
+
+def check_pair(first, second):
+    check_person(first)
+    check_person(second)
+    if first == second:
+        raise NoPair("a pair is two unlike persons")
+
+
+def parts_of(person):
+    check_person(person)
     return person.partition("@")
 
 

@@ -1,6 +1,6 @@
 """The package keeps to LANGUAGE.md, as far as a walk over its syntax tree can see.
 
-Rules that hang on meaning (L9, L19, L23, L24, L28) are looked at only in part.
+Rules that hang on meaning (L9, L19, L22, L23, L24, L28) are looked at only in part.
 """
 
 import ast
@@ -38,6 +38,23 @@ BANNED_WORDS = re.compile(
     r"namedtuple|NamedTuple|TypedDict|TYPE_CHECKING|abstractmethod)\b|dataclass|overload|contextmanager"
 )
 BANNED_FILES = set("test tests testing site conftest sitecustomize usercustomize".split()) | set(dir(builtins))
+# L22: the keywords of Python's own names.
+KEYWORDS = {
+    "sorted": {"key", "reverse"}, "min": {"key", "default"}, "max": {"key", "default"}, "sum": {"start"},
+    "enumerate": {"start"}, "zip": {"strict"},
+}
+# L23: what is walked on the spot, and where it may stand besides loops.
+WALKED = {"zip", "enumerate", "reversed", "range"}
+WALKED_METHODS = {"items", "keys", "values"}
+WALKERS = set("list tuple dict sorted sum any all enumerate zip min max".split())
+# L15: what may be done to a list or dict of a file's top, by name.
+READERS = set("len list dict tuple sorted min max sum any all enumerate zip reversed set frozenset".split())
+READING_METHODS = {"get", "items", "keys", "values", "index", "count", "copy"}
+# L26: names that Python's own values have, less those that stay free.
+OWN_NAMES = set().union(*[dir(kind) for kind in (str, int, list, dict, set, bytes)])
+FREE_METHODS = METHODS | {"add", "discard"} | SPECIAL_METHODS
+FREE_VALUES = set("count index title find get join lower upper split strip copy add".split())
+NO_VALUES = {"args"}
 NODES = (
     ast.Module, ast.ImportFrom, ast.alias, ast.FunctionDef, ast.arguments, ast.arg, ast.ClassDef, ast.Assign,
     ast.AugAssign, ast.If, ast.While, ast.For, ast.Return, ast.Break, ast.Continue, ast.Pass, ast.Raise, ast.Try,
@@ -212,6 +229,104 @@ def use_faults(node):
         yield from name_faults(node.name, node.lineno, is_method=True)
 
 
+def parents_of(tree):
+    return {child: node for node in ast.walk(tree) for child in ast.iter_child_nodes(node)}
+
+
+def called_name(node):
+    return node.func.id if isinstance(node, ast.Call) and isinstance(node.func, ast.Name) else None
+
+
+def is_walked_here(node, parents):
+    parent = parents[node]
+    if isinstance(parent, (ast.For, ast.comprehension)):
+        return parent.iter is node
+    if called_name(parent) in WALKERS:
+        return parent.args[0] is node
+    return isinstance(parent, ast.Call) and isinstance(parent.func, ast.Attribute) and parent.func.attr == "join"
+
+
+def walk_faults(node, parents):
+    if not isinstance(node, ast.Call):
+        return
+    method = node.func.attr if isinstance(node.func, ast.Attribute) else None
+    if (called_name(node) in WALKED or method in WALKED_METHODS) and not is_walked_here(node, parents):
+        yield "L23", node.lineno
+
+
+def set_faults(node, parents):
+    if called_name(node) not in ("set", "frozenset") and not isinstance(node, ast.Set):
+        return
+    parent = parents[node]
+    while isinstance(parent, ast.BinOp):
+        parent = parents[parent]
+    in_call = called_name(parent) in ("sorted", "len") and not parent.keywords
+    if not in_call and not isinstance(parent, ast.Compare):
+        yield "L24", node.lineno
+
+
+def keyword_faults(node):
+    """Keywords at Python's own names; those at the program's own are free."""
+    name = called_name(node)
+    if name in BUILTINS:
+        for keyword in node.keywords:
+            if keyword.arg not in KEYWORDS.get(name, ()):
+                yield "L22", node.lineno
+
+
+def own_name_faults(node):
+    if isinstance(node, ast.ClassDef):
+        for part in node.body:
+            if isinstance(part, ast.FunctionDef) and part.name in OWN_NAMES - FREE_METHODS:
+                yield "L26", part.lineno
+    elif isinstance(node, ast.Attribute) and isinstance(node.ctx, ast.Store):
+        if node.attr in (OWN_NAMES - FREE_VALUES) | NO_VALUES:
+            yield "L26", node.lineno
+
+
+def local_faults(tree):
+    """Parameters and locals that are called like an import or a class of their file."""
+    taken = {alias.asname or alias.name for node in tree.body if isinstance(node, ast.ImportFrom) for alias in node.names}
+    taken |= {node.name for node in tree.body if isinstance(node, ast.ClassDef)}
+    for node in ast.walk(tree):
+        if isinstance(node, ast.arg) and node.arg in taken:
+            yield "L15", node.lineno
+        if isinstance(node, ast.Name) and isinstance(node.ctx, ast.Store) and node.id in taken:
+            yield "L15", node.lineno
+        if isinstance(node, ast.ExceptHandler) and node.name in taken:
+            yield "L15", node.lineno
+
+
+def is_only_read(node, parents):
+    parent = parents[node]
+    if isinstance(parent, ast.Subscript):
+        return parent.value is node and isinstance(parent.ctx, ast.Load)
+    if isinstance(parent, ast.Attribute):
+        return parent.attr in READING_METHODS
+    if isinstance(parent, (ast.For, ast.comprehension)):
+        return parent.iter is node
+    return isinstance(parent, ast.Compare) or called_name(parent) in READERS
+
+
+def kept_faults(tree, parents):
+    """Lists and dicts of a file's top are only read."""
+    kept = {
+        node.targets[0].id for node in tree.body
+        if isinstance(node, ast.Assign) and isinstance(node.value, (ast.List, ast.Dict))
+    }
+    for node in ast.walk(tree):
+        if isinstance(node, ast.Name) and isinstance(node.ctx, ast.Load) and node.id in kept:
+            if not is_only_read(node, parents):
+                yield "L15", node.lineno
+
+
+def returning_faults(node):
+    if isinstance(node, ast.FunctionDef) and node.name == "__init__":
+        for part in ast.walk(node):
+            if isinstance(part, ast.Return) and part.value is not None:
+                yield "L28", part.lineno
+
+
 def names_of_top(tree):
     names = set()
     for node in tree.body:
@@ -250,8 +365,11 @@ def has_ring(trees):
 
 
 def file_faults(text, tree, modules, classes, methods):
+    parents = parents_of(tree)
     yield from text_faults(text)
     yield from top_faults(tree)
+    yield from local_faults(tree)
+    yield from kept_faults(tree, parents)
     for node in ast.walk(tree):
         if not isinstance(node, NODES):
             yield "L6", getattr(node, "lineno", 0)
@@ -264,6 +382,11 @@ def file_faults(text, tree, modules, classes, methods):
         yield from statement_faults(node)
         yield from expression_faults(node, methods)
         yield from use_faults(node)
+        yield from walk_faults(node, parents)
+        yield from set_faults(node, parents)
+        yield from keyword_faults(node)
+        yield from own_name_faults(node)
+        yield from returning_faults(node)
 
 
 def package_faults(texts):
@@ -328,9 +451,21 @@ class TestTheCheck(unittest.TestCase):
         ("L19", "def f(a):\n    try:\n        return a()\n    except Exception:\n        return 1\n"),
         ("L20", "def f(a, b):\n    return a is b\n"),
         ("L21", "def f(a: int):\n    return a\n"),
+        ("L15", "class C:\n    pass\n\n\ndef f():\n    C = 1\n    return C\n"),
+        ("L15", "A = [1]\n\n\ndef f():\n    A.append(2)\n"),
+        ("L15", "A = [1]\n\n\ndef f():\n    return A\n"),
+        ("L15", "A = {1: 1}\n\n\ndef f():\n    A[1] = 2\n"),
+        ("L22", "def f(a):\n    return int(a, base=3)\n"),
+        ("L23", "def f(a):\n    b = range(a)\n    return list(b)\n"),
+        ("L23", "def f(a):\n    return a.items()\n"),
+        ("L24", "def f(a):\n    b = set(a)\n    return len(b)\n"),
+        ("L24", "def f(a):\n    return [b for b in set(a)]\n"),
         ("L25", "def f(a):\n    return a.title()\n"),
+        ("L26", "class C:\n    def title(self):\n        return 1\n"),
+        ("L26", "class C:\n    def __init__(self):\n        self.items = 1\n"),
         ("L27", "def f(n):\n    return 2 ** n\n"),
         ("L27", "def f(n):\n    return '%'\n"),
+        ("L28", "class C:\n    def __init__(self):\n        return None\n"),
     ]
 
     def test_each_broken_text_is_found(self):
@@ -340,6 +475,11 @@ class TestTheCheck(unittest.TestCase):
 
     def test_a_plain_text_has_no_fault(self):
         text = '"""Plain."""\n\nA = 1\n\n\ndef f(a):\n    return [b + A for b in sorted(a)]\n'
+        self.assertEqual(package_faults({"plain": text}), [])
+        text = (
+            "A = {1: 2}\n\n\ndef f(a, b):\n    for k, v in A.items():\n        b.append(v)\n"
+            "    return sorted(set(a) - set(b)) + [A[k] for k in range(A.get(1))] + list(A) + sorted(a, reverse=True)\n"
+        )
         self.assertEqual(package_faults({"plain": text}), [])
 
 
