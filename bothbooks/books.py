@@ -2,8 +2,9 @@
 
 from bothbooks.errors import Gone, NoHouse, NoPair, NoText, NotHere, Wrong
 from bothbooks.halves import FIRST_ANSWER, asks, state
-from bothbooks.letters import house_of_turner, is_between_houses, is_turn, letter_text, read_parts, to_house
-from bothbooks.people import check_pair, check_person, house_of, is_house, is_person
+from bothbooks.letters import to_house
+from bothbooks.people import check_leaving, check_pair, house_of, is_house, is_person
+from bothbooks.turns import house_of_turner, is_between_houses, is_turn, read_parts, turn_text
 
 
 # home: the house. kept: for each pair that has a row, its wish and answer. leavers:
@@ -74,9 +75,7 @@ class Book:
         return self.turn_answer(first, second, "open", 0)
 
     def leave(self, person, other=None):
-        check_person(person)
-        if other is not None:
-            check_pair(person, other)
+        check_leaving(person, other)
         self.check_doer(person)
         self.put_leaver(person, other)
         letters = []
@@ -131,7 +130,7 @@ class Book:
             self.kept[(turn[1], turn[2])] = (turn[3], halves[1])
         else:
             self.kept[(turn[1], turn[2])] = (halves[0], turn[3:])
-        self.written.append(letter_text(turn))
+        self.written.append(turn_text(turn))
 
     def put_leaver(self, person, other):
         self.leavers[person] = other

@@ -37,6 +37,13 @@ def check_pair(first, second):
         raise NoPair("a pair is two unlike persons")
 
 
+# other: the person as which the one who leaves goes on, or None.
+def check_leaving(person, other):
+    check_person(person)
+    if other is not None:
+        check_pair(person, other)
+
+
 def parts_of(person):
     check_person(person)
     return person.partition("@")
