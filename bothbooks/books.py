@@ -1,7 +1,7 @@
 """A house's book: its rows, the deeds of its people, the letters that it takes, and its lines."""
 
 from bothbooks.errors import Gone, NoHouse, NoPair, NoText, NotHere, Wrong
-from bothbooks.halves import FIRST_ANSWER, asks, state
+from bothbooks.halves import FIRST_HALVES, asks, state
 from bothbooks.letters import to_house
 from bothbooks.people import check_leaving, check_pair, house_of, is_house, is_person
 from bothbooks.turns import house_of_turner, is_between_houses, is_turn, read_parts, turn_text
@@ -113,7 +113,7 @@ class Book:
             raise Wrong(now)
 
     def held(self, first, second):
-        return self.kept.get((first, second), (0, FIRST_ANSWER))
+        return self.kept.get((first, second), FIRST_HALVES)
 
     def held_state(self, first, second):
         halves = self.held(first, second)

@@ -2,8 +2,8 @@
 
 from bothbooks.people import is_person
 
-# The answer of a pair that nobody ever answered.
-FIRST_ANSWER = (0, "none", 0)
+# The wish and answer of a pair of which neither half was ever turned.
+FIRST_HALVES = (0, (0, "none", 0))
 # How often an answer was turned at least, where it bears this word.
 LEAST_NUMBER = {"lets": 1, "refuses": 1, "bars": 1, "gone": 1, "moved": 1, "open": 2}
 
@@ -49,9 +49,13 @@ def is_answer(thing):
     return number_fits(thing[0], thing[1]) and at_fits(thing[2], thing[1])
 
 
+def is_farewell(answer):
+    return answer[1] in ("gone", "moved")
+
+
 def state(wish, answer):
     word = answer[1]
-    if word in ("gone", "moved"):
+    if is_farewell(answer):
         return "gone"
     if word == "bars":
         return "barred"

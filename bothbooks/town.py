@@ -7,7 +7,7 @@ from bothbooks.halves import is_whole
 from bothbooks.letters import to_house
 from bothbooks.mends import mending
 from bothbooks.people import check_leaving, check_pair, house_of, is_house
-from bothbooks.sums import shared
+from bothbooks.sums import shared, unlike
 
 MOST_HOUSES = 4
 
@@ -118,6 +118,11 @@ class Town:
         self.check_houses(one, other)
         pairs = shared(self.books[one], self.books[other])
         return all([self.halves_at(one, pair) == self.halves_at(other, pair) for pair in pairs])
+
+    # The pairs in which both books differ by their sums.
+    def unlike(self, one, other):
+        self.check_houses(one, other)
+        return unlike(self.books[one], self.books[other])[0]
 
     def mend(self, one, other):
         self.check_houses(one, other)

@@ -5,9 +5,12 @@ import random
 import unittest
 
 from bothbooks.books import read_book
+from bothbooks.desk import Desk
+from bothbooks.judges import judged
 from bothbooks.mends import mending
 from bothbooks.runs import replay
 from bothbooks.sums import shared, sum_of, unlike
+from bothbooks.texts import deed_text, read_book_text, read_deed
 from bothbooks.town import Town
 from making import PEOPLE_DEEDS, draw_deeds, is_done_in_town, people_of
 
@@ -269,6 +272,34 @@ class TestMended(unittest.TestCase):
                 self.assertIs(town.agree(one, other), False)
                 met += 1
         self.assertGreater(met, 100)
+
+
+class TestJudged(unittest.TestCase):
+    """That no deeds lead to what is told as of none, test_judges.py holds against a search."""
+
+    def test_the_deeds_told_lead_to_the_books_also_at_a_desk(self):
+        met = 0
+        for seed in range(80):
+            draw = random.Random(seed)
+            houses = draw.sample(HOUSES, 2)
+            town = Town(houses)
+            people = people_of(houses, ["ann", "bob", "zoe"])
+            for deed in draw_deeds(draw, town, people, STORMY, 100):
+                pass
+            one, other = houses
+            word, deeds = judged(one, town.rows(one), other, town.rows(other))
+            self.assertEqual(word, "run")
+            met += len(deeds)
+            texts = [deed_text(deed) for deed in deeds]
+            self.assertEqual([read_deed(text) for text in texts], deeds)
+            desk = Desk()
+            desk.say(f"town {one} {other}")
+            for text in texts:
+                self.assertEqual(desk.say(text), "ok")
+            for house in houses:
+                self.assertEqual(read_book_text(desk.say(f"book {house}")), (house, town.rows(house)))
+            self.assertEqual(desk.say(f"judge {one} {other}"), f"run {len(deeds)}")
+        self.assertGreater(met, 1000)
 
 
 if __name__ == "__main__":
